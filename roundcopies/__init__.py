@@ -1,0 +1,1 @@
+"""Roundcopies: copies laid by steps on a sheet of boxes."""

@@ -8,6 +8,11 @@ def is_integer_from(low, high, thing):
     return low <= thing <= high
 
 
+def is_integer_above(low, thing):
+    """Whether a thing is an integer greater than low, however great; True and False are none."""
+    return isinstance(thing, int) and not isinstance(thing, bool) and thing > low
+
+
 def is_lot_below(bound, thing):
     """Whether a thing is a lot of numbers below a bound."""
     if not isinstance(thing, tuple):

@@ -73,10 +73,15 @@ def place_at(sheet, digits):
 
 
 def sum_of(sheet, one, other):
-    """The sum of two places."""
-    ones = rests_at(sheet, one)
-    others = rests_at(sheet, other)
-    return place_at(sheet, [(a + b) % modulus for a, b, modulus in zip(ones, others, sheet.moduli)])
+    """The sum of two places: digit by digit, the lowest first, with nothing carried."""
+    place = 0
+    unit = 1
+    for modulus in reversed(sheet.moduli):
+        place += unit * ((one + other) % modulus)
+        one = one // modulus
+        other = other // modulus
+        unit = unit * modulus
+    return place
 
 
 def shift_by(sheet, lot, place):

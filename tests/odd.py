@@ -3,7 +3,7 @@
 import copy
 import types
 
-from roundcopies import errors, sheets, tables
+from roundcopies import errors, layouts, sheets, tables
 
 
 def nested(kind, depth):
@@ -33,12 +33,14 @@ def live_things():
     """Wrong things of the other kinds: functions, iterators, classes, objects of the package."""
     sheet = sheets.Sheet((2, 3))
     table = tables.Table(2, (((0, 1), 1),))
+    layout = layouts.Layout(sheet, (((0, 1), 1),))
     return [
         object(), int, bool, tuple, type(None), len, "".join, live_things, lambda: 0, types.ModuleType("m"), errors,
         iter([0]), iter((0, 1)), iter(range(2)), zip((0,), (1,)), enumerate((0, 1)), reversed((0, 1)), map(len, ()),
         (item for item in (0, 1)), {0: 1}.keys(), {0: 1}.values(), {0: 1}.items(), memoryview(b"\x00\x01"),
         ValueError("x"), KeyError(0), property(), staticmethod(len), types.MappingProxyType({0: 0}),
-        types.SimpleNamespace(moduli=(2, 3), places=6), sheet, table, errors.NoPlace(), errors.BadSheet("moduli"),
+        types.SimpleNamespace(moduli=(2, 3), places=6), sheet, table, layout, errors.NoPlace(),
+        errors.BadSheet("moduli"), layouts.Layout,
         sheets.Sheet, errors.CopyError, (sheet,), (0, sheet), (0, table), ((0,), table), (object(), object()), (int, 1),
     ]
 

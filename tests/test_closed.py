@@ -3,6 +3,7 @@
 import itertools
 import unittest
 
+from brute import adder, all_lots
 from odd import copies_of, odd_things, plain_things
 from roundcopies.errors import NoLot, NoPlace, NotClosed
 from roundcopies.sheets import Sheet, closed_lots, is_closed, shifted, shifts_met, spanned
@@ -13,23 +14,10 @@ SMALL = TINY + ((12,), (16,), (2, 6), (6, 2), (3, 4), (4, 4), (2, 2, 3), (2, 3, 
 LARGE = ((120,), (97,), (64,), (10, 12), (1, 120), (8, 8), (4, 5, 6), (2, 6, 10), (3, 6, 6), (4, 4, 4), (1, 11, 10))
 
 
-def adder(moduli):
-    """The sums of all places, by rests, apart from the program."""
-    known = list(itertools.product(*[range(modulus) for modulus in moduli]))
-    number = {digits: place for place, digits in enumerate(known)}
-    return [[number[tuple([(a + b) % m for a, b, m in zip(one, other, moduli)])] for other in known] for one in known]
-
-
 def holds_sums(sums, lot):
     """Whether a lot holds 0 and the sum of any two of it, by the words of the document."""
     held = set(lot)
     return 0 in held and all([sums[one][other] in held for one in lot for other in lot])
-
-
-def all_lots(places):
-    """All lots of so many places."""
-    for many in range(places + 1):
-        yield from itertools.combinations(range(places), many)
 
 
 def grown_from(sums, lot):

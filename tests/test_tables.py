@@ -4,17 +4,13 @@ import itertools
 import unittest
 from unittest import mock
 
+from brute import all_lots
 from odd import copies_of, odd_things, plain_things
 from roundcopies import tables
 from roundcopies.errors import BadTable, NoLoss
 from roundcopies.tables import Table, gone, is_loss
 
 BLOCK = ((0,), 1)
-
-
-def all_losses(boxes):
-    """All lots of so many boxes."""
-    return [lot for many in range(boxes + 1) for lot in itertools.combinations(range(boxes), many)]
 
 
 class TestTable(unittest.TestCase):
@@ -126,7 +122,7 @@ class TestTable(unittest.TestCase):
 class TestLosses(unittest.TestCase):
     def test_lots_of_boxes_are_losses(self):
         table = Table(4, (BLOCK,))
-        for loss in all_losses(4):
+        for loss in all_lots(4):
             self.assertIs(is_loss(table, loss), True)
         self.assertIs(is_loss(Table(120, (BLOCK,)), tuple(range(120))), True)
         self.assertIs(is_loss(Table(119, (BLOCK,)), tuple(range(120))), False)
@@ -151,10 +147,10 @@ class TestLosses(unittest.TestCase):
             gone(table, thing)
         self.assertIs(type(caught.exception), NoLoss)
 
-    def test_gone_behind_all_losses(self):
-        lots = [lot for lot in all_losses(4) if lot]
+    def test_gone_behind_all_lots(self):
+        lots = [lot for lot in all_lots(4) if lot]
         table = Table(5, tuple([(lot, 1 + at) for at, lot in enumerate(lots)]))
-        for loss in all_losses(5):
+        for loss in all_lots(5):
             right = tuple([at for at, lot in enumerate(lots) if set(lot) <= set(loss)])
             found = gone(table, loss)
             self.assertEqual(found, right)

@@ -5,12 +5,11 @@ from roundcopies.errors import NoFraction, NoLoss
 from roundcopies.lots import is_integer_from, is_lot_below
 from roundcopies.tables import is_loss
 
-MOST_PART = 10 ** 30
-
 
 def is_fraction(top, bottom):
     """Whether two things are the top and the bottom of a fraction, perhaps not in lowest terms."""
-    return is_integer_from(0, MOST_PART, top) and is_integer_from(1, MOST_PART, bottom)
+    most = 10 ** 30
+    return is_integer_from(0, most, top) and is_integer_from(1, most, bottom)
 
 
 def heavy_lot(table, loss, top, bottom):

@@ -58,8 +58,6 @@ def copies(layout):
 
 def layout_of(sheet, table):
     """The layout on a sheet whose table it is, or None."""
-    if table.boxes != sheet.places:
-        return None
     # The block of a kind at the place 0 lies on the very steps of the kind.
     kinds = table.blocks[::sheet.places]
     if len(kinds) > MOST_KINDS or not all([is_kind(sheet, kind) for kind in kinds]):

@@ -229,6 +229,13 @@ class TestLayoutOf(unittest.TestCase):
             table = Table(10, laid((10,), ((tuple(range(many)), 1),)))
             self.assertEqual(layout_of(RING, table), None if many > 8 else Layout(RING, ((tuple(range(8)), 1),)))
 
+    def test_one_of_several_kinds_is_none(self):
+        for at in range(3):
+            kinds = [((0, 1), 1), ((0, 2), 1), ((3,), 1)]
+            kinds[at] = (tuple(range(9)), 1)
+            for many in range(at + 1, 4):
+                self.assertIs(layout_of(RING, Table(10, laid((10,), tuple(kinds[:many])))), None)
+
     def test_fewer_blocks_than_places(self):
         self.assertIs(layout_of(Sheet((3,)), Table(3, (KIND,))), None)
         self.assertIs(layout_of(Sheet((3,)), Table(3, (((0, 1), 1), ((1, 2), 1)))), None)

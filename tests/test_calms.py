@@ -206,6 +206,8 @@ class TestIsWorstCluster(unittest.TestCase):
                       ((0, 4), (-8, 0)), ((0, 4), (False, 8)), ((False, 4), (0, 8)), ((0, 4), 0), ((0, 4), None),
                       (0, (0, 8)), ((0, 8), (0, 4)), ((0, 4), (0, 9)), ((0, 4), ((0, 8),)), "ab", {0: 1, 1: 2}):
             self.assertIs(is_worst_cluster(layout, 1, thing), False, repr(thing)[:60])
+        for f, lot in itertools.product((0, 1), ((0,), (0, 4), tuple(range(8)))):
+            self.assertIs(is_worst_cluster(layout, f, (lot, ())), False)
         for thing in odd_things():
             for cluster in ((thing, (0, 8)), ((0, 4), thing), ((0, thing), (0, 8)), ((0, 4), (thing,)),
                             ((0, 4), (0, thing))):

@@ -43,8 +43,12 @@ def heavy_blocks(table, lots, top, bottom):
 
 
 def greatest_density(table, loss):
-    """The least load: the greatest fraction of the weights of some blocks to the boxes that are left to them."""
-    lots = lots_left(table, loss)
+    """The least load behind a loss."""
+    return density_of(table, lots_left(table, loss))
+
+
+def density_of(table, lots):
+    """The least load of blocks on lots: the greatest fraction of the weights of some to the boxes under them."""
     densest = list(lots)
     fraction = (0, 1)
     # Each heavy lot is denser than what it is too heavy for: the last one is the densest.

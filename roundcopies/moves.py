@@ -1,9 +1,10 @@
 """How a whole sharing is changed, when another loss comes, by as few moves as can be."""
 
-from roundcopies.deals import lots_left, rows_borne
+from roundcopies.deals import density_of, lots_left, rows_borne
 from roundcopies.errors import NoLoss, NoSharing, TooMany
+from roundcopies.ratios import rounded_up
 from roundcopies.redeals import Redeal
-from roundcopies.sharings import is_sharing_behind, least_whole
+from roundcopies.sharings import is_sharing_behind
 from roundcopies.tables import is_loss
 
 MOST_ASKS = 400
@@ -38,13 +39,23 @@ def least_moves(table, loss, sharing, later):
         raise NoLoss()
     if not is_whole(table, loss, sharing):
         raise NoSharing()
+    check_asks(table)
+    return (1, rows_anew(table, lots_left(table, later), sharing[1]))
+
+
+def check_asks(table):
+    """Raise TooMany if all weights come to more than can be dealt one by one."""
     if sum([weight for _, weight in table.blocks]) > MOST_ASKS:
         raise TooMany(MOST_ASKS)
-    lots = lots_left(table, later)
+
+
+def rows_anew(table, lots, ahead):
+    """Whole rows of the blocks with lots, with the least greatest load, that move the fewest asks from rows ahead."""
     asks = [table.blocks[number][1] for number in lots]
-    ahead = [borne_ahead(table, sharing[1], number) for number in lots]
-    redeal = Redeal(asks, list(lots.values()), [least_whole(table, later)] * table.boxes, ahead)
-    return (1, rows_borne(table, lots, redeal.borne))
+    room = rounded_up(density_of(table, lots))
+    borne = [borne_ahead(table, ahead, number) for number in lots]
+    redeal = Redeal(asks, list(lots.values()), [room] * table.boxes, borne)
+    return rows_borne(table, lots, redeal.borne)
 
 
 def borne_ahead(table, rows, number):

@@ -41,6 +41,12 @@ def loads_of(table, rows):
     return loads
 
 
+def greatest_load(table, sharing):
+    """The greatest load of a box by a sharing, which is taken as right."""
+    parts, rows = sharing
+    return lowest(max(loads_of(table, rows)), parts)
+
+
 def is_sharing(table, loss, thing):
     """Whether a thing is a sharing behind a loss."""
     if not is_loss(table, loss):
@@ -54,8 +60,7 @@ def load_of(table, loss, sharing):
         raise NoLoss()
     if not is_sharing_behind(table, loss, sharing):
         raise NoSharing()
-    parts, rows = sharing
-    return lowest(max(loads_of(table, rows)), parts)
+    return greatest_load(table, sharing)
 
 
 def least_load(table, loss):

@@ -16,7 +16,9 @@ METHODS = ("append clear copy count endswith extend find get index insert isalnu
            "rsplit rstrip setdefault split splitlines startswith strip update upper values zfill bit_length").split()
 BARRED = ("register mro elements open input law version_info type typing enum Enum Flag Generic Protocol ABC "
           "namedtuple dir eval exec exit gc getattr hasattr help id locals os quit setattr super vars sys").split()
-BARRED_NODES = (ast.GeneratorExp, ast.Yield, ast.YieldFrom, ast.Try, ast.With, ast.Global, ast.Nonlocal, ast.Div,
+# What a caller hands in, to be called.
+HANDED_IN = ("dealer",)
+BARRED_NODES = (ast.GeneratorExp, ast.Yield, ast.YieldFrom, ast.TryStar, ast.With, ast.Global, ast.Nonlocal, ast.Div,
                 ast.NamedExpr, ast.AsyncFunctionDef, ast.Await, ast.AnnAssign, ast.Invert)
 
 
@@ -133,7 +135,7 @@ class TestNames(unittest.TestCase):
             own = {*defined_in(name), *[imported for _, imported in imports_of(name)]}
             for node, at in nodes_of(name, ast.Call):
                 if isinstance(node.func, ast.Name):
-                    self.assertTrue(node.func.id in own or node.func.id in CALLED, at)
+                    self.assertTrue(node.func.id in own or node.func.id in (*CALLED, *HANDED_IN), at)
 
     def test_methods_that_are_called(self):
         own = {node.name for node, _ in all_nodes(ast.FunctionDef)}
@@ -145,8 +147,16 @@ class TestNames(unittest.TestCase):
         taken = {name for kind in (int, str, bytes, list, tuple, dict, set) for name in dir(kind)}
         for node, at in all_nodes(ast.ClassDef):
             for method in node.body:
-                if isinstance(method, ast.FunctionDef) and method.name not in ("__init__", "__eq__"):
+                if isinstance(method, ast.FunctionDef) and method.name not in ("__init__", "__eq__", "copy"):
                     self.assertNotIn(method.name, taken, at)
+
+    def test_no_name_is_a_method_and_an_attribute_of_one_class(self):
+        for node, at in all_nodes(ast.ClassDef):
+            methods = {method.name for method in node.body if isinstance(method, ast.FunctionDef)}
+            stored = {inner.attr for inner in ast.walk(node) if isinstance(inner, ast.Attribute)
+                      and isinstance(inner.ctx, ast.Store)}
+            self.assertEqual(methods & stored, set(), at)
+            self.assertEqual(stored & {"items", "keys", "values", "pop", "update", "sort", "args", "format"}, set(), at)
 
 
 class TestStatements(unittest.TestCase):
@@ -155,6 +165,15 @@ class TestStatements(unittest.TestCase):
         for node, at in all_nodes(ast.BinOp):
             if isinstance(node.op, ast.Pow):
                 self.assertTrue(isinstance(node.left, ast.Constant) and isinstance(node.right, ast.Constant), at)
+
+    def test_own_errors_alone_are_caught(self):
+        own = [name for name in defined_in("errors.py") if name != "CopyError"]
+        for node, at in all_nodes(ast.Try):
+            self.assertEqual((node.orelse, node.finalbody), ([], []), at)
+            for handler in node.handlers:
+                self.assertIsInstance(handler.type, ast.Name, at)
+                self.assertIn(handler.type.id, own, at)
+                self.assertIsNone(handler.name, at)
 
     def test_no_decorators_and_no_nested_functions(self):
         for node, at in all_nodes((ast.FunctionDef, ast.ClassDef)):

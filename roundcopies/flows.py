@@ -10,12 +10,14 @@ from roundcopies.masks import joined_masks, least_of, lot_of, mask_of
 class Flow:
     """Asks of blocks, each dealt to boxes of its lot as far as all have room.
 
-    borne has for each box a dict from blocks to how many of their asks it bears,
-    left for each block how many found no room. short is the lot of the blocks
-    that asks without room could be dealt to: their boxes have no room left.
+    once tells whether no box may bear two asks of one block. borne has for each
+    box a dict from blocks to how many of their asks it bears, left for each block
+    how many found no room. short is the lot of the blocks that asks without room
+    could be dealt to, full that of the boxes: these have no room left.
     """
 
-    def __init__(self, asks, lots, rooms):
+    def __init__(self, asks, lots, rooms, once=False):
+        self.once = once
         self.left = list(asks)
         self.rooms = list(rooms)
         self.borne = [{} for _ in rooms]
@@ -25,6 +27,7 @@ class Flow:
         while self.search():
             self.fill()
         self.short = tuple(sorted(self.heights))
+        self.full = lot_of(joined_masks(self.layers))
 
     def search(self):
         """Find how far blocks and boxes are from asks that are left; whether room is found."""
@@ -92,12 +95,16 @@ class Flow:
     def pour(self, blocks, boxes):
         """Deal as many asks by a way as it lets."""
         pushed = [self.borne[box][block] for box, block in zip(boxes, blocks[1:])]
-        many = min([self.left[blocks[0]], self.rooms[boxes[-1]], *pushed])
+        many = 1 if self.once else min([self.left[blocks[0]], self.rooms[boxes[-1]], *pushed])
         for box, block in zip(boxes, blocks):
             self.borne[box][block] = self.borne[box].get(block, 0) + many
+            if self.once:
+                self.masks[block] -= 1 << box
         for box, block in zip(boxes, blocks[1:]):
             self.borne[box][block] = self.borne[box][block] - many
             if self.borne[box][block] == 0:
                 del self.borne[box][block]
+            if self.once:
+                self.masks[block] += 1 << box
         self.left[blocks[0]] -= many
         self.rooms[boxes[-1]] -= many

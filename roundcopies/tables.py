@@ -48,3 +48,10 @@ def gone(table, loss):
     return tuple([
         number for number, block in enumerate(table.blocks) if all([box in loss for box in block[0]])
     ])
+
+
+def laid_anew(table, lots):
+    """The table with the same boxes and weights whose blocks are on other boxes, which may come in any order."""
+    return Table(table.boxes, tuple([
+        (tuple(sorted(lot)), weight) for lot, (_, weight) in zip(lots, table.blocks)
+    ]))

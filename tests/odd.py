@@ -3,7 +3,7 @@
 import copy
 import types
 
-from roundcopies import desks, errors, layouts, sheets, stores, tables
+from roundcopies import desks, errors, layouts, menders, sheets, stores, tables
 
 
 def nested(kind, depth):
@@ -40,7 +40,7 @@ def live_things():
         (item for item in (0, 1)), {0: 1}.keys(), {0: 1}.values(), {0: 1}.items(), memoryview(b"\x00\x01"),
         ValueError("x"), KeyError(0), property(), staticmethod(len), types.MappingProxyType({0: 0}),
         types.SimpleNamespace(moduli=(2, 3), places=6), sheet, table, layout, errors.NoPlace(),
-        errors.BadSheet("moduli"), layouts.Layout, stores.Store(table), desks.Desk(table),
+        errors.BadSheet("moduli"), layouts.Layout, stores.Store(table), desks.Desk(table), menders.Mender(table),
         sheets.Sheet, errors.CopyError, (sheet,), (0, sheet), (0, table), ((0,), table), (object(), object()), (int, 1),
     ]
 

@@ -1,6 +1,6 @@
 """How a whole sharing is changed, when another loss comes, by as few moves as can be."""
 
-from roundcopies.deals import density_of, lots_left, rows_borne
+from roundcopies.deals import density_of, flow_on, lots_left, rows_borne
 from roundcopies.errors import NoLoss, NoSharing, TooMany
 from roundcopies.ratios import rounded_up
 from roundcopies.redeals import Redeal
@@ -51,8 +51,11 @@ def check_asks(table):
 
 def rows_anew(table, lots, ahead):
     """Whole rows of the blocks with lots, with the least greatest load, that move the fewest asks from rows ahead."""
-    asks = [table.blocks[number][1] for number in lots]
     room = rounded_up(density_of(table, lots))
+    # A flow is found much sooner, where no asks can be moved.
+    if not ahead:
+        return rows_borne(table, lots, flow_on(table, lots, 1, room).borne)
+    asks = [table.blocks[number][1] for number in lots]
     borne = [borne_ahead(table, ahead, number) for number in lots]
     redeal = Redeal(asks, list(lots.values()), [room] * table.boxes, borne)
     return rows_borne(table, lots, redeal.borne)

@@ -2,6 +2,7 @@
 
 import itertools
 import random
+import time
 import unittest
 
 from brute import laid, random_blocks, random_kinds
@@ -12,6 +13,7 @@ from roundcopies.layouts import Layout, table_of
 from roundcopies.losses import most_gone, worst_gone
 from roundcopies.sheets import Sheet
 from roundcopies.tables import Table, gone
+from roundcopies.within import weights_within
 
 TOLD = Table(3, (((0, 1), 3), ((1, 2), 2)))
 
@@ -83,6 +85,52 @@ class TestAllLosses(unittest.TestCase):
         blocks = random_blocks(chance, 14, 360, 5, 10 ** 6)
         for many in (1, 4, 13):
             self.assert_right(14, blocks, many)
+
+    def test_few_blocks_and_as_many_as_boxes(self):
+        # Few lots are gone through in another way than many: both must tell the same.
+        chance = random.Random(53)
+        for boxes in (2, 3, 5, 8, 9):
+            for many_blocks in (1, 2, boxes - 1, boxes, boxes + 1, 2 * boxes):
+                for most, weight in ((1, 1), (2, 1), (boxes, 1), (3, 3), (boxes, 10 ** 6)):
+                    blocks = random_blocks(chance, boxes, many_blocks, most, weight)
+                    for many in range(boxes + 1):
+                        self.assert_right(boxes, blocks, many)
+        for boxes in (12, 14):
+            for most, weight in ((1, 1), (2, 2), (6, 1)):
+                blocks = random_blocks(chance, boxes, 12, most, weight)
+                for many in (0, 1, 2, 7, boxes - 1, boxes):
+                    self.assert_right(boxes, blocks, many)
+
+    def test_blocks_on_the_same_boxes_are_lost_together(self):
+        blocks = (((3, 4), 2), ((0,), 3), ((3, 4), 2), ((1, 2), 3))
+        table = Table(6, blocks)
+        self.assertEqual([most_gone(table, many) for many in range(7)], [0, 3, 4, 7, 7, 10, 10])
+        self.assertEqual([worst_gone(table, many) for many in range(7)],
+                         [(), (0,), (3, 4), (0, 3, 4), (0, 1, 3, 4), (0, 1, 2, 3, 4), (0, 1, 2, 3, 4, 5)])
+
+
+class TestHowLong(unittest.TestCase):
+    def shortest(self, call, *args):
+        """The shortest of some times that a call takes."""
+        found = []
+        for _ in range(7):
+            start = time.perf_counter()
+            call(*args)
+            found.append(time.perf_counter() - start)
+        return min(found)
+
+    def test_few_blocks_take_far_less_than_all_sets_of_boxes(self):
+        chance = random.Random(54)
+        told = (((0, 1), 3), ((2, 13), 2), ((5,), 1), ((1, 3, 7), 2), ((4, 6), 5), ((8, 9, 10, 11), 1), ((0, 12), 2),
+                ((3,), 4), ((6, 7), 1), ((2, 5), 1), ((9, 13), 2), ((1, 12), 3))
+        tables = [told, tuple([((box,), 1) for box in range(12)]), tuple([((box, box + 2), 1) for box in range(12)]),
+                  random_blocks(chance, 14, 12, 3, 2), random_blocks(chance, 14, 12, 6, 1)]
+        # Going through the sets of boxes takes so long, on whichever machine.
+        most = self.shortest(weights_within, Table(14, told)) / 2
+        for blocks in tables:
+            for many in (0, 1, 3, 5, 6, 7, 9, 14):
+                for call in (most_gone, worst_gone):
+                    self.assertLess(self.shortest(call, Table(14, blocks), many), most, (blocks, many))
 
 
 class TestErrors(unittest.TestCase):

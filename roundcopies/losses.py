@@ -50,7 +50,7 @@ def worst_by_lots(boxes, many, weights):
     """The greatest weight and its least loss, by the sets of lots that may be lost together."""
     joined = [(0, 0)]
     left = sum(list(weights.values()))
-    # The heaviest lots come first: what they leave too far behind is soon dropped.
+    # The heaviest lots come first, so that what cannot come up to the most any more is soon dropped.
     for lot, weight in sorted(weights.items(), key=lambda pair: -pair[1]):
         left -= weight
         wider = [(own + weight, mask | lot) for own, mask in joined]

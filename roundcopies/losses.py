@@ -17,8 +17,8 @@ def worst_of(table, many):
     if table.boxes > MOST_BOXES_GONE_THROUGH:
         raise TooMany(MOST_BOXES_GONE_THROUGH)
     lots = weights_of_lots(table, many)
-    # Whichever are fewer are gone through: sets of lots, or sets of boxes.
-    if len(lots) < table.boxes:
+    # Sets of lots are gone through sooner than sets of boxes, unless there are more of them.
+    if len(lots) <= table.boxes:
         return worst_by_lots(table.boxes, many, lots)
     return worst_by_boxes(table, many)
 
